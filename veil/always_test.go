@@ -1,0 +1,111 @@
+package veil_test
+
+import (
+	"math/rand"
+	"strings"
+	"testing"
+
+	"veil/api"
+	"veil/veil"
+)
+
+func anyText(r *rand.Rand, length int) string {
+	b := make([]byte, length)
+	for i := range b {
+		b[i] = byte(r.Intn(256))
+		if r.Intn(8) > 0 {
+			b[i] = `ab019,-^|*+?{}()[].\`[r.Intn(20)]
+		}
+	}
+	return string(b)
+}
+
+// P1: with an error every other result is nought, but for a place that lies in
+// the text or at its end.
+func TestEveryTextEnds(t *testing.T) {
+	r := rand.New(rand.NewSource(3))
+	for range 50000 {
+		p, s := anyText(r, r.Intn(66)), anyText(r, r.Intn(20))
+		e, n := veil.Pattern(p)
+		switch e {
+		case api.OK:
+			if n < 1 || n > api.MaxWeight {
+				t.Errorf("P1: Pattern(%q) = %d, %d", p, e, n)
+			}
+		case api.ErrPattern:
+			if n < 0 || n > len(p) {
+				t.Errorf("P1: Pattern(%q) = %d, %d", p, e, n)
+			}
+		default:
+			if n != 0 || e != api.ErrLong && e != api.ErrBig {
+				t.Errorf("P1: Pattern(%q) = %d, %d", p, e, n)
+			}
+		}
+		want := e
+		if len(s) > api.MaxSecret {
+			want = api.ErrLong
+		}
+		if v, f := veil.Match(p, s); f != want || v && f != api.OK {
+			t.Errorf("P1: Match(%q, %q) = %v, %d, want error %d", p, s, v, f, want)
+		}
+	}
+}
+
+// P1: patterns on which a careless program would not end.
+func TestDeepTextsEnd(t *testing.T) {
+	s := strings.Repeat("a", 15) + "b"
+	for _, p := range []string{
+		"a" + strings.Repeat("*", 59),
+		"a" + strings.Repeat("*?+", 19),
+		"a" + strings.Repeat("{0,1}", 11),
+		"(a" + strings.Repeat("{9,9}", 10) + "){0,0}",
+		"(a" + strings.Repeat("{9,9}", 10) + "){1,0}",
+		"(" + strings.Repeat("(a|", 10) + "a" + strings.Repeat(")*", 10) + ")+",
+		"(a*a*a*a*a*a*a*a*a*a*)*",
+		"(((((a?){2,2})*){2,2})*{0,1})*",
+		strings.Repeat("(", 30) + strings.Repeat(")", 30),
+	} {
+		if e, _ := veil.Pattern(p); e != api.OK {
+			t.Errorf("P1: Pattern(%q) = %d", p, e)
+		}
+		if v, e := veil.Match(p, s); v || e != api.OK {
+			t.Errorf("P1: Match(%q, %q) = %v, %d", p, s, v, e)
+		}
+	}
+	huge := strings.Repeat("(", 50000000)
+	if e, n := veil.Pattern(huge); e != api.ErrLong || n != 0 {
+		t.Errorf("P1: Pattern of a huge text = %d, %d", e, n)
+	}
+	if v, e := veil.Match(huge, huge); v || e != api.ErrLong {
+		t.Errorf("P1: Match of huge texts = %v, %d", v, e)
+	}
+}
+
+// P2: what was called before changes no answer.
+func TestNothingIsKept(t *testing.T) {
+	type answer struct {
+		e, f api.Errno
+		n    int
+		v    bool
+	}
+	ask := func(p, s string) answer {
+		e, n := veil.Pattern(p)
+		v, f := veil.Match(p, s)
+		return answer{e, f, n, v}
+	}
+	r := rand.New(rand.NewSource(4))
+	texts, strs, first := []string{}, []string{}, []answer{}
+	for range 500 {
+		p, s := anyPattern(r, 1+r.Intn(6)), anyOf(r, allStrings("ab", 4)...)
+		if r.Intn(3) == 0 {
+			p = spoiled(r, p)
+		}
+		texts, strs, first = append(texts, p), append(strs, s), append(first, ask(p, s))
+	}
+	for range 5000 {
+		i := r.Intn(len(texts))
+		if again := ask(texts[i], strs[i]); again != first[i] {
+			t.Errorf("P2: Pattern and Match of %q, %q answered %v, then %v", texts[i], strs[i], first[i], again)
+		}
+	}
+}

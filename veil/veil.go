@@ -1,0 +1,50 @@
+// Package veil: policies for secrets, and machines that judge a secret without showing it: see DOC.md.
+package veil
+
+import (
+	"veil/api"
+	"veil/pattern"
+)
+
+// Pattern tells whether a text is a pattern, and its weight (P3).
+func Pattern(p string) (api.Errno, int) {
+	_, e, n := pattern.Read(p)
+	return e, n
+}
+
+// Match tells whether a string matches a pattern (P4).
+func Match(p string, s string) (bool, api.Errno) {
+	if len(p) > api.MaxPattern || len(s) > api.MaxSecret {
+		return false, api.ErrLong
+	}
+	tree, e, _ := pattern.Read(p)
+	if e != api.OK {
+		return false, e
+	}
+	a := pattern.Build(tree)
+	return a.Match(s), api.OK
+}
+
+// Table makes the table of a pattern (P5).
+func Table(p string) (string, api.Errno) { return "", api.OK }
+
+// Open tells whether a text is an image (P6).
+func Open(image string) api.Errno { return api.OK }
+
+// Compile makes the image of a policy (P7).
+func Compile(policy string, n int) (string, api.Errno, int) { return "", api.OK, 0 }
+
+// Run runs code over memory (P8).
+func Run(code []api.Op, memory []int, steps int) ([]int, []int, api.Errno) { return nil, nil, api.OK }
+
+// Code makes code and data that judge a secret by an image (P9).
+func Code(image string) ([]api.Op, []int, api.Errno) { return nil, nil, api.OK }
+
+// Check judges a secret by an image (P10).
+func Check(image string, secret string) (bool, []int, api.Errno) { return false, nil, api.OK }
+
+// Witness tells the first secret that an image grants (P11).
+func Witness(image string) (string, bool, api.Errno) { return "", false, api.OK }
+
+// Differ tells the first string on which two images part (P12).
+func Differ(x string, y string) (string, bool, api.Errno) { return "", false, api.OK }
