@@ -3,9 +3,9 @@ package pattern
 // Automaton reads strings. Its state is the set of the spots at which the
 // bytes read so far may have ended.
 type Automaton struct {
-	next []int // of each spot the spots that may come behind it
-	sets []byteSet
-	last int // the spots at which a match may end
+	next []int    // of each spot the spots that may come behind it
+	fits [256]int // of each byte the spots at which it can stand
+	last int      // the spots at which a match may end
 }
 
 // start is the state before the first byte: spot 0 alone, which stands before
@@ -21,7 +21,12 @@ func Build(t Tree) Automaton {
 	whole = behind(onePart(noSet), whole)
 	a := Automaton{next: whole.next, last: whole.last}
 	for i := 0; i < len(whole.sets); i++ {
-		a.sets = append(a.sets, setAt(t, whole.sets[i]))
+		set := setAt(t, whole.sets[i])
+		for b := 0; b < len(set); b++ {
+			if set[b] {
+				a.fits[b] |= move(1, i)
+			}
+		}
 	}
 	return a
 }
@@ -33,28 +38,26 @@ func setAt(t Tree, i int) byteSet {
 	return t.sets[i]
 }
 
-// step is the state to which a byte leads.
-func (a Automaton) step(state int, b byte) int {
-	reach := 0
+// reach is the set of the spots that may come behind those of a state.
+func (a *Automaton) reach(state int) int {
+	spots := 0
 	for i := 0; i < len(a.next); i++ {
 		if has(state, i) {
-			reach |= a.next[i]
+			spots |= a.next[i]
 		}
 	}
-	led := 0
-	for i := 0; i < len(a.sets); i++ {
-		if has(reach, i) && a.sets[i][b] {
-			led |= move(1, i)
-		}
-	}
-	return led
+	return spots
+}
+
+func (a *Automaton) grants(state int) bool {
+	return state&a.last != 0
 }
 
 // Match tells whether a string matches the automaton's pattern.
-func (a Automaton) Match(s string) bool {
+func (a *Automaton) Match(s string) bool {
 	state := start
 	for i := 0; i < len(s); i++ {
-		state = a.step(state, s[i])
+		state = a.reach(state) & a.fits[s[i]]
 	}
-	return state&a.last != 0
+	return a.grants(state)
 }

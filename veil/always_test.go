@@ -48,6 +48,9 @@ func TestEveryTextEnds(t *testing.T) {
 		if v, f := veil.Match(p, s); f != want || v && f != api.OK {
 			t.Errorf("P1: Match(%q, %q) = %v, %d, want error %d", p, s, v, f, want)
 		}
+		if table, f := veil.Table(p); f != e && (e != api.OK || f != api.ErrBig) || (f == api.OK) != (table != "") {
+			t.Errorf("P1: Table(%q) = %q, %d beside Pattern's %d", p, table, f, e)
+		}
 	}
 }
 
@@ -71,6 +74,9 @@ func TestDeepTextsEnd(t *testing.T) {
 		if v, e := veil.Match(p, s); v || e != api.OK {
 			t.Errorf("P1: Match(%q, %q) = %v, %d", p, s, v, e)
 		}
+		if table, e := veil.Table(p); table == "" || e != api.OK {
+			t.Errorf("P1: Table(%q) = %q, %d", p, table, e)
+		}
 	}
 	huge := strings.Repeat("(", 50000000)
 	if e, n := veil.Pattern(huge); e != api.ErrLong || n != 0 {
@@ -79,19 +85,24 @@ func TestDeepTextsEnd(t *testing.T) {
 	if v, e := veil.Match(huge, huge); v || e != api.ErrLong {
 		t.Errorf("P1: Match of huge texts = %v, %d", v, e)
 	}
+	if table, e := veil.Table(huge); table != "" || e != api.ErrLong {
+		t.Errorf("P1: Table of a huge text = %q, %d", table, e)
+	}
 }
 
 // P2: what was called before changes no answer.
 func TestNothingIsKept(t *testing.T) {
 	type answer struct {
-		e, f api.Errno
-		n    int
-		v    bool
+		e, f, g api.Errno
+		n       int
+		v       bool
+		table   string
 	}
 	ask := func(p, s string) answer {
 		e, n := veil.Pattern(p)
 		v, f := veil.Match(p, s)
-		return answer{e, f, n, v}
+		table, g := veil.Table(p)
+		return answer{e, f, g, n, v, table}
 	}
 	r := rand.New(rand.NewSource(4))
 	texts, strs, first := []string{}, []string{}, []answer{}
@@ -105,7 +116,7 @@ func TestNothingIsKept(t *testing.T) {
 	for range 5000 {
 		i := r.Intn(len(texts))
 		if again := ask(texts[i], strs[i]); again != first[i] {
-			t.Errorf("P2: Pattern and Match of %q, %q answered %v, then %v", texts[i], strs[i], first[i], again)
+			t.Errorf("P2: Pattern, Match and Table of %q, %q answered %v, then %v", texts[i], strs[i], first[i], again)
 		}
 	}
 }

@@ -4,6 +4,7 @@ package veil
 import (
 	"veil/api"
 	"veil/pattern"
+	"veil/table"
 )
 
 // Pattern tells whether a text is a pattern, and its weight (P3).
@@ -26,7 +27,19 @@ func Match(p string, s string) (bool, api.Errno) {
 }
 
 // Table makes the table of a pattern (P5).
-func Table(p string) (string, api.Errno) { return "", api.OK }
+func Table(p string) (string, api.Errno) {
+	tree, e, _ := pattern.Read(p)
+	if e != api.OK {
+		return "", e
+	}
+	a := pattern.Build(tree)
+	g := pattern.Draw(&a)
+	t, e := table.Of(&g)
+	if e != api.OK {
+		return "", e
+	}
+	return t.Bytes(), api.OK
+}
 
 // Open tells whether a text is an image (P6).
 func Open(image string) api.Errno { return api.OK }
