@@ -1,4 +1,4 @@
-// Package table makes the tables of patterns.
+// Package table makes the tables of patterns, and reads and writes tables.
 package table
 
 import (
@@ -14,14 +14,25 @@ type Table struct {
 	next    []int  // of each state, for each class, the state it leads to
 }
 
-// Of makes the table of a pattern's graph; ErrBig, if it has more states or
-// classes than may be.
+// OfPattern makes the table of a pattern, with the errors that P5 names.
+func OfPattern(p string) (Table, api.Errno) {
+	tree, e, _ := pattern.Read(p)
+	if e != api.OK {
+		return Table{}, e
+	}
+	a := pattern.Build(tree)
+	g := pattern.Draw(&a)
+	return ofGraph(&g)
+}
+
+// ofGraph makes the table of a pattern's graph; ErrBig, if it has more states
+// or classes than may be.
 //
 // The graph's states stand in the order of their first strings, and its
 // letters in that of their least bytes. The first state of a kind is the one
 // with the first string, the first letter of a class the one with the least
 // byte: so kinds and classes are numbered as the document asks.
-func Of(g *pattern.Graph) (Table, api.Errno) {
+func ofGraph(g *pattern.Graph) (Table, api.Errno) {
 	f := fold(g)
 	if len(f.heads) > api.MaxStates {
 		return Table{}, api.ErrBig

@@ -54,6 +54,40 @@ func TestEveryTextEnds(t *testing.T) {
 	}
 }
 
+// P1: with an error there is no image, and the number is that of a rule or a
+// place in the formula, if P7 names one, else 0.
+func TestEveryPolicyEnds(t *testing.T) {
+	r := rand.New(rand.NewSource(10))
+	for range 20000 {
+		policy := strings.Repeat(anyText(r, r.Intn(4))+"\n", r.Intn(6)) + anyText(r, r.Intn(45))
+		if r.Intn(2) == 0 {
+			policy = anyText(r, r.Intn(300))
+		}
+		n := r.Intn(20) - 2
+		x, e, number := veil.Compile(policy, n)
+		most := 0
+		switch e {
+		case api.ErrPattern, api.ErrBig:
+			most = api.MaxRules - 1
+		case api.ErrLong:
+			if len(policy) <= api.MaxPolicy {
+				most = api.MaxRules - 1
+			}
+		case api.ErrForm:
+			most = min(api.MaxFormula, len(policy)-strings.LastIndex(policy, "\n")-1)
+		}
+		if number < 0 || number > most || (e == api.OK) != (x != "") {
+			t.Errorf("P1: Compile(%q, %d) = %q, %d, %d", policy, n, x, e, number)
+		}
+		if f := veil.Open(x); (f == api.OK) != (e == api.OK) {
+			t.Errorf("P1: Open of what Compile(%q, %d) answered: %d", policy, n, f)
+		}
+		if f := veil.Open("VP" + policy); f != api.ErrImage {
+			t.Errorf("P1: Open(%q) = %d", "VP"+policy, f)
+		}
+	}
+}
+
 // P1: patterns on which a careless program would not end.
 func TestDeepTextsEnd(t *testing.T) {
 	s := strings.Repeat("a", 15) + "b"
@@ -117,6 +151,31 @@ func TestNothingIsKept(t *testing.T) {
 		i := r.Intn(len(texts))
 		if again := ask(texts[i], strs[i]); again != first[i] {
 			t.Errorf("P2: Pattern, Match and Table of %q, %q answered %v, then %v", texts[i], strs[i], first[i], again)
+		}
+	}
+}
+
+// P2: nor does it change those of Compile and Open.
+func TestNoPolicyIsKept(t *testing.T) {
+	type answer struct {
+		image  string
+		e, f   api.Errno
+		number int
+	}
+	ask := func(policy string, n int) answer {
+		x, e, number := veil.Compile(policy, n)
+		return answer{x, e, veil.Open(x), number}
+	}
+	r := rand.New(rand.NewSource(11))
+	texts, first := []string{}, []answer{}
+	for i := range 300 {
+		texts = append(texts, anyPolicy(r))
+		first = append(first, ask(texts[i], i%18))
+	}
+	for range 3000 {
+		i := r.Intn(len(texts))
+		if again := ask(texts[i], i%18); again != first[i] {
+			t.Errorf("P2: Compile and Open of %q, %d answered %v, then %v", texts[i], i%18, first[i], again)
 		}
 	}
 }

@@ -4,6 +4,7 @@ package veil
 import (
 	"veil/api"
 	"veil/pattern"
+	"veil/policies"
 	"veil/table"
 )
 
@@ -28,13 +29,7 @@ func Match(p string, s string) (bool, api.Errno) {
 
 // Table makes the table of a pattern (P5).
 func Table(p string) (string, api.Errno) {
-	tree, e, _ := pattern.Read(p)
-	if e != api.OK {
-		return "", e
-	}
-	a := pattern.Build(tree)
-	g := pattern.Draw(&a)
-	t, e := table.Of(&g)
+	t, e := table.OfPattern(p)
 	if e != api.OK {
 		return "", e
 	}
@@ -42,10 +37,19 @@ func Table(p string) (string, api.Errno) {
 }
 
 // Open tells whether a text is an image (P6).
-func Open(image string) api.Errno { return api.OK }
+func Open(image string) api.Errno {
+	_, e := policies.Open(image)
+	return e
+}
 
 // Compile makes the image of a policy (P7).
-func Compile(policy string, n int) (string, api.Errno, int) { return "", api.OK, 0 }
+func Compile(policy string, n int) (string, api.Errno, int) {
+	m, e, at := policies.Compile(policy, n)
+	if e != api.OK {
+		return "", e, at
+	}
+	return m.Bytes(), api.OK, 0
+}
 
 // Run runs code over memory (P8).
 func Run(code []api.Op, memory []int, steps int) ([]int, []int, api.Errno) { return nil, nil, api.OK }
