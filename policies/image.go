@@ -55,6 +55,23 @@ func (m *Image) readTables(text string, tables int) bool {
 	return text == ""
 }
 
+// Most is the most bytes that a secret may have.
+func (m *Image) Most() int { return m.most }
+
+// Rules is the number of rules, which is that of the tables.
+func (m *Image) Rules() int { return len(m.tables) }
+
+// Table is the table of a rule.
+func (m *Image) Table(rule int) table.Table {
+	if rule < 0 || rule >= len(m.tables) {
+		return table.Table{}
+	}
+	return m.tables[rule]
+}
+
+// Grants tells whether a secret is granted of which each rule is true or not.
+func (m *Image) Grants(truths []bool) bool { return isTrue(m.formula, truths) }
+
 // Bytes gives the image as the bytes that the document names.
 func (m *Image) Bytes() string {
 	head := []byte{byte(m.most), byte(len(m.tables)), byte(len(m.formula))}

@@ -54,6 +54,28 @@ func ofGraph(g *pattern.Graph) (Table, api.Errno) {
 	return t, api.OK
 }
 
+// States is the number of states.
+func (t *Table) States() int { return len(t.granted) }
+
+// Classes is the number of classes.
+func (t *Table) Classes() int { return t.classes }
+
+// Class is the class of a byte.
+func (t *Table) Class(b byte) int { return t.class[b] }
+
+// Granted tells whether the strings of a state are granted.
+func (t *Table) Granted(state int) bool {
+	return state >= 0 && state < len(t.granted) && t.granted[state]
+}
+
+// Next is the state to which a class leads from a state.
+func (t *Table) Next(state, class int) int {
+	if state < 0 || state >= len(t.granted) || class < 0 || class >= t.classes {
+		return 0
+	}
+	return at(t.next, state*t.classes+class)
+}
+
 // Bytes gives the table as the bytes that the document names.
 func (t *Table) Bytes() string {
 	text := []byte{byte(len(t.granted)), byte(t.classes)}

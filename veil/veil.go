@@ -3,6 +3,8 @@ package veil
 
 import (
 	"veil/api"
+	"veil/judge"
+	"veil/machine"
 	"veil/pattern"
 	"veil/policies"
 	"veil/table"
@@ -52,13 +54,28 @@ func Compile(policy string, n int) (string, api.Errno, int) {
 }
 
 // Run runs code over memory (P8).
-func Run(code []api.Op, memory []int, steps int) ([]int, []int, api.Errno) { return nil, nil, api.OK }
+func Run(code []api.Op, memory []int, steps int) ([]int, []int, api.Errno) {
+	return machine.Run(code, memory, steps)
+}
 
 // Code makes code and data that judge a secret by an image (P9).
-func Code(image string) ([]api.Op, []int, api.Errno) { return nil, nil, api.OK }
+func Code(image string) ([]api.Op, []int, api.Errno) {
+	m, e := policies.Open(image)
+	if e != api.OK {
+		return nil, nil, e
+	}
+	code, data := judge.Code(&m)
+	return code, data, api.OK
+}
 
 // Check judges a secret by an image (P10).
-func Check(image string, secret string) (bool, []int, api.Errno) { return false, nil, api.OK }
+func Check(image string, secret string) (bool, []int, api.Errno) {
+	m, e := policies.Open(image)
+	if e != api.OK {
+		return false, nil, e
+	}
+	return judge.Check(&m, secret)
+}
 
 // Witness tells the first secret that an image grants (P11).
 func Witness(image string) (string, bool, api.Errno) { return "", false, api.OK }
