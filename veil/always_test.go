@@ -179,3 +179,57 @@ func TestNoPolicyIsKept(t *testing.T) {
 		}
 	}
 }
+
+// P1: no text lets Witness or Differ answer a string beside an error or beside
+// false.
+func TestEveryWitnessEnds(t *testing.T) {
+	r := rand.New(rand.NewSource(25))
+	for range 1000 {
+		x := anyOf(r, "", "VP", "VP\x10\x01\x01a") + anyText(r, r.Intn(400))
+		y := x
+		if r.Intn(2) == 0 {
+			x = anyImage(r)
+		}
+		if r.Intn(3) == 0 {
+			y = anyImage(r)
+		}
+		e, f := veil.Open(x), veil.Open(y)
+		s, found, g := veil.Witness(x)
+		if g != e && (e != api.OK || g != api.ErrBig) || s != "" && !found || found && g != api.OK || len(s) > api.MaxSecret {
+			t.Errorf("P1: Witness(%.60q ..): %q, %v, %d beside Open's %d", x, s, found, g, e)
+		}
+		want := max(e, f)
+		s, found, g = veil.Differ(x, y)
+		if g != want && (want != api.OK || g != api.ErrBig) || s != "" && !found || found && g != api.OK {
+			t.Errorf("P1: Differ(%.60q .., %.60q ..): %q, %v, %d beside Open's %d and %d", x, y, s, found, g, e, f)
+		}
+	}
+}
+
+// P2: what was called before changes no answer of Witness and Differ.
+func TestNoTupleIsKept(t *testing.T) {
+	type answer struct {
+		s, d string
+		v, w bool
+		e, f api.Errno
+	}
+	ask := func(x, y string) answer {
+		s, v, e := veil.Witness(x)
+		d, w, f := veil.Differ(x, y)
+		return answer{s, d, v, w, e, f}
+	}
+	r := rand.New(rand.NewSource(26))
+	images, first := []string{"", "VP"}, []answer{}
+	for range 200 {
+		images = append(images, anySmallImage(r, 1+r.Intn(4), 1+r.Intn(8)))
+	}
+	for i, x := range images {
+		first = append(first, ask(x, images[len(images)-1-i]))
+	}
+	for range 1000 {
+		i := r.Intn(len(images))
+		if again := ask(images[i], images[len(images)-1-i]); again != first[i] {
+			t.Errorf("P2: Witness and Differ answered %v, then %v", first[i], again)
+		}
+	}
+}

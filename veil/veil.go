@@ -8,6 +8,7 @@ import (
 	"veil/pattern"
 	"veil/policies"
 	"veil/table"
+	"veil/tuples"
 )
 
 // Pattern tells whether a text is a pattern, and its weight (P3).
@@ -78,7 +79,23 @@ func Check(image string, secret string) (bool, []int, api.Errno) {
 }
 
 // Witness tells the first secret that an image grants (P11).
-func Witness(image string) (string, bool, api.Errno) { return "", false, api.OK }
+func Witness(image string) (string, bool, api.Errno) {
+	m, e := policies.Open(image)
+	if e != api.OK {
+		return "", false, e
+	}
+	return tuples.Witness(&m)
+}
 
 // Differ tells the first string on which two images part (P12).
-func Differ(x string, y string) (string, bool, api.Errno) { return "", false, api.OK }
+func Differ(x string, y string) (string, bool, api.Errno) {
+	m, e := policies.Open(x)
+	if e != api.OK {
+		return "", false, e
+	}
+	n, e := policies.Open(y)
+	if e != api.OK {
+		return "", false, e
+	}
+	return tuples.Differ(&m, &n)
+}
